@@ -4,19 +4,16 @@ import (
 	"strings"
 
 	"halyard/api"
+	"halyard/deps"
 	"halyard/scan"
-	"halyard/span"
 	"halyard/vers"
 )
 
-const (
-	headWord = "package" // begins the first line
-	blank    = " "       // between two words
-	lineEnd  = "\n"      // behind a line's last word
-)
+// headWord begins the first line.
+const headWord = "package"
 
 // listWords begin the lines of each list.
-var listWords = [kinds]string{"needs", "beside", "likes"}
+func listWords() []string { return []string{"needs", "beside", "likes"} }
 
 // Print writes a package.
 func Print(p api.Package) (string, api.Errno) {
@@ -33,25 +30,15 @@ func written(p api.Package) (string, bool) {
 		return "", false
 	}
 	var text strings.Builder
-	writeLine(&text, headWord, p.Name, vers.Print(p.Version))
+	text.WriteString(headWord + " " + p.Name + " " + vers.Print(p.Version) + "\n")
+	words := listWords()
 	for i, l := range lists(p) {
-		for _, d := range l {
-			writeLine(&text, listWords[i], d.Name, span.Print(d.Range))
-		}
+		deps.Write(&text, words[i], l)
 	}
 	if text.Len() > api.MaxText {
 		return "", false
 	}
 	return text.String(), true
-}
-
-func writeLine(text *strings.Builder, word, name, rest string) {
-	text.WriteString(word)
-	text.WriteString(blank)
-	text.WriteString(name)
-	text.WriteString(blank)
-	text.WriteString(rest)
-	text.WriteString(lineEnd)
 }
 
 // Parse reads a package.
@@ -79,19 +66,9 @@ func readLines(lines [][]string) (api.Package, api.Errno) {
 	if e != api.OK {
 		return api.Package{}, e
 	}
-	var read [kinds][]api.Dep
-	list := 0
-	for _, words := range lines[1:] {
-		next := listOf(words[0])
-		if next < list || len(words) < 3 {
-			return api.Package{}, api.ErrLine
-		}
-		list = next
-		d, e := readDep(words[1], words[2:], read[list])
-		if e != api.OK {
-			return api.Package{}, e
-		}
-		read[list] = append(read[list], d)
+	read, e := deps.Read(lines[1:], listWords())
+	if e != api.OK {
+		return api.Package{}, e
 	}
 	p.Deps, p.Peers, p.Optional = read[0], read[1], read[2]
 	return p, api.OK
@@ -109,27 +86,4 @@ func readHead(words []string) (api.Package, api.Errno) {
 		return api.Package{}, api.ErrVersion
 	}
 	return api.Package{Name: words[1], Version: v}, api.OK
-}
-
-// listOf is the number of the list whose lines begin with that word; of no list it is less than all of them.
-func listOf(word string) int {
-	for i, w := range listWords {
-		if w == word {
-			return i
-		}
-	}
-	return -1
-}
-
-// readDep reads what stands behind a line's first word; ahead is what the list has so far.
-func readDep(name string, words []string, ahead []api.Dep) (api.Dep, api.Errno) {
-	if !mayFollow(ahead, name) {
-		return api.Dep{}, api.ErrName
-	}
-	r, e := span.Parse(strings.Join(words, blank))
-	// Too many spans are no text that span takes either, though span has another number for it.
-	if e != api.OK || !mayRange(r) {
-		return api.Dep{}, api.ErrRange
-	}
-	return api.Dep{Name: name, Range: r}, api.OK
 }

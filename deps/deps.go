@@ -1,0 +1,50 @@
+// Package deps is lists of Deps, as packages and manifests have them: which may be, which are the same, and the lines of their texts; see shared/doc/05-pack.md.
+package deps
+
+import (
+	"slices"
+
+	"halyard/api"
+	"halyard/scan"
+	"halyard/span"
+)
+
+// May tells whether a list may be.
+func May(l []api.Dep) bool {
+	if len(l) > api.MaxList {
+		return false
+	}
+	for i, d := range l {
+		if !mayFollow(l[:i], d.Name) || !mayRange(d.Range) {
+			return false
+		}
+	}
+	return true
+}
+
+// mayFollow tells whether a name may be, and rises above those ahead of it, which rise.
+func mayFollow(ahead []api.Dep, name string) bool {
+	return scan.Name(name) && (len(ahead) == 0 || ahead[len(ahead)-1].Name < name)
+}
+
+// mayRange: nothing could be chosen out of the range of none.
+func mayRange(l []api.Span) bool { return len(l) > 0 && span.May(l) }
+
+// Once tells whether no name stands twice, in whichever of the lists.
+func Once(lists ...[]api.Dep) bool {
+	times := map[string]int{}
+	for _, l := range lists {
+		for _, d := range l {
+			times[d.Name]++
+			if times[d.Name] > 1 {
+				return false
+			}
+		}
+	}
+	return true
+}
+
+// Same tells whether two lists are the same, be they such as may be or not.
+func Same(a, b []api.Dep) bool { return slices.EqualFunc(a, b, sameDep) }
+
+func sameDep(a, b api.Dep) bool { return a.Name == b.Name && slices.Equal(a.Range, b.Range) }
