@@ -1,8 +1,9 @@
-// Package deps is lists of Deps, as packages and manifests have them: which may be, which are the same, and the lines of their texts; see shared/doc/05-pack.md.
+// Package deps is lists of Deps, as packages and manifests have them: which may be, which are the same, copies of them, and the lines of their texts; see shared/doc/05-pack.md.
 package deps
 
 import (
 	"slices"
+	"strings"
 
 	"halyard/api"
 	"halyard/scan"
@@ -48,3 +49,12 @@ func Once(lists ...[]api.Dep) bool {
 func Same(a, b []api.Dep) bool { return slices.EqualFunc(a, b, sameDep) }
 
 func sameDep(a, b api.Dep) bool { return a.Name == b.Name && slices.Equal(a.Range, b.Range) }
+
+// Copy is a list in memory of its own, at every depth.
+func Copy(l []api.Dep) []api.Dep {
+	var out []api.Dep
+	for _, d := range l {
+		out = append(out, api.Dep{Name: strings.Clone(d.Name), Range: slices.Clone(d.Range)})
+	}
+	return out
+}

@@ -84,6 +84,32 @@ func TestSame(t *testing.T) {
 	}
 }
 
+// A copy is the same list, whoever writes into the other one, at both depths.
+func TestCopy(t *testing.T) {
+	for _, texts := range [][]string{nil, {"a"}, {"a 1.0.0 || 2.0.0", "b"}, {"b", "a", "a"}, names(17)} {
+		given, want := list(texts...), list(texts...)
+		got := deps.Copy(given)
+		for i := range given {
+			clear(given[i].Range)
+			given[i].Name = "spoilt"
+		}
+		if !deps.Same(got, want) {
+			t.Errorf("Copy(%v): %v", want, got)
+		}
+		given = deps.Copy(got)
+		for i := range got {
+			clear(got[i].Range)
+		}
+		clear(got)
+		if !deps.Same(given, want) {
+			t.Errorf("Copy(%v) behind writing into what was copied: %v", want, given)
+		}
+	}
+	if got := deps.Copy([]api.Dep{{Name: "A"}, {}}); !deps.Same(got, []api.Dep{{Name: "A"}, {}}) {
+		t.Errorf("Copy of what may not be: %v", got)
+	}
+}
+
 // Each line has its word, a name and a range's text, and stands behind what is written.
 func TestWrite(t *testing.T) {
 	var text strings.Builder
