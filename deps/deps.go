@@ -1,13 +1,15 @@
-// Package deps is lists of Deps, as packages and manifests have them: which may be, which are the same, copies of them, and the lines of their texts; see shared/doc/05-pack.md.
+// Package deps is lists of Deps, as packages and manifests have them: which may be, which are the same, an order of them, copies of them, and the lines of their texts; see shared/doc/05-pack.md.
 package deps
 
 import (
+	"cmp"
 	"slices"
 	"strings"
 
 	"halyard/api"
 	"halyard/scan"
 	"halyard/span"
+	"halyard/vers"
 )
 
 // May tells whether a list may be.
@@ -49,6 +51,17 @@ func Once(lists ...[]api.Dep) bool {
 func Same(a, b []api.Dep) bool { return slices.EqualFunc(a, b, sameDep) }
 
 func sameDep(a, b api.Dep) bool { return a.Name == b.Name && slices.Equal(a.Range, b.Range) }
+
+// Compare is an order of all lists, be they such as may be or not, in which just those are level that are the same.
+func Compare(a, b []api.Dep) int { return slices.CompareFunc(a, b, compareDeps) }
+
+func compareDeps(a, b api.Dep) int {
+	return cmp.Or(strings.Compare(a.Name, b.Name), slices.CompareFunc(a.Range, b.Range, compareSpans))
+}
+
+func compareSpans(a, b api.Span) int {
+	return cmp.Or(vers.Compare(a.Lo, b.Lo), vers.Compare(a.Hi, b.Hi))
+}
 
 // Copy is a list in memory of its own, at every depth.
 func Copy(l []api.Dep) []api.Dep {

@@ -1,6 +1,8 @@
 package deps_test
 
 import (
+	"cmp"
+	"math"
 	"slices"
 	"strconv"
 	"strings"
@@ -81,6 +83,23 @@ func TestSame(t *testing.T) {
 	}
 	if !deps.Same(nil, []api.Dep{}) || !deps.Same([]api.Dep{{Name: "a"}}, []api.Dep{{Name: "a", Range: []api.Span{}}}) {
 		t.Error("nil and empty are not the same")
+	}
+}
+
+// Lists rise by their names, byte by byte, then by their ranges, from the left on; just those are level that are the same.
+func TestCompare(t *testing.T) {
+	least, most := api.Version{Major: math.MinInt}, api.Version{Patch: math.MaxInt}
+	rising := [][]api.Dep{nil, {{}}, {{Name: "A"}}, {{Name: "a"}}, {{Name: "a", Range: []api.Span{{Lo: least, Hi: least}}}}, {{Name: "a", Range: []api.Span{{Lo: least, Hi: most}}}},
+		list("a 1.0.0"), list("a 1.0.0", "a"), list("a 1.0.0", "b"), list("a 1.0.0 || 2.0.0"), list("a >=1.0.0"), list("a 1.0.1"), list("a 1.1.0"), list("a 2.0.0"), list("a-"), list("a0"), list("aa"), list("b"), list("b", "a"), list("b", "b")}
+	for i, a := range rising {
+		for j, b := range rising {
+			if got := deps.Compare(a, deps.Copy(b)); got != cmp.Compare(i, j) || (got == 0) != deps.Same(a, b) {
+				t.Errorf("Compare(%v, %v): %d", a, b, got)
+			}
+		}
+	}
+	if deps.Compare(nil, []api.Dep{}) != 0 || deps.Compare([]api.Dep{{Name: "a"}}, []api.Dep{{Name: "a", Range: []api.Span{}}}) != 0 {
+		t.Error("nil and empty are not level")
 	}
 }
 
