@@ -1,4 +1,4 @@
-// Package deps is lists of Deps, as packages and manifests have them: which may be, which are the same, an order of them, copies of them, and the lines of their texts; see shared/doc/05-pack.md.
+// Package deps is lists of Deps, as packages and manifests have them: which may be, which are the same, an order of them, copies of them and of packages, and the lines of their texts; see shared/doc/05-pack.md.
 package deps
 
 import (
@@ -70,4 +70,9 @@ func Copy(l []api.Dep) []api.Dep {
 		out = append(out, api.Dep{Name: strings.Clone(d.Name), Range: slices.Clone(d.Range)})
 	}
 	return out
+}
+
+// CopyPackage is a package in memory of its own, at every depth.
+func CopyPackage(p api.Package) api.Package {
+	return api.Package{Name: strings.Clone(p.Name), Version: p.Version, Deps: Copy(p.Deps), Peers: Copy(p.Peers), Optional: Copy(p.Optional)}
 }

@@ -185,3 +185,30 @@ func TestReadRefuses(t *testing.T) {
 		t.Errorf("of a line without words: %v, error %d", got, e)
 	}
 }
+
+// A copy of a package is the same package, whoever writes into the other one, at every depth.
+func TestCopyPackage(t *testing.T) {
+	made := func() api.Package {
+		return api.Package{Name: "a", Version: api.Version{Major: 1, Minor: 2, Patch: 3}, Deps: list("b", "c 1.0.0"), Peers: list("d 1.0.0 || 2.0.0"), Optional: list("e")}
+	}
+	same := func(a, b api.Package) bool {
+		return a.Name == b.Name && a.Version == b.Version && deps.Same(a.Deps, b.Deps) && deps.Same(a.Peers, b.Peers) && deps.Same(a.Optional, b.Optional)
+	}
+	given := made()
+	got := deps.CopyPackage(given)
+	for _, l := range [][]api.Dep{given.Deps, given.Peers, given.Optional} {
+		for i := range l {
+			clear(l[i].Range)
+			l[i].Name = "spoilt"
+		}
+	}
+	if !same(got, made()) || same(given, made()) {
+		t.Errorf("CopyPackage: %v", got)
+	}
+	if got := deps.CopyPackage(api.Package{}); !same(got, api.Package{}) {
+		t.Errorf("CopyPackage of the zero one: %v", got)
+	}
+	if got := deps.CopyPackage(api.Package{Name: "A", Version: api.Version{Major: -1}, Deps: []api.Dep{{}}}); !same(got, api.Package{Name: "A", Version: api.Version{Major: -1}, Deps: []api.Dep{{}}}) {
+		t.Errorf("CopyPackage of what may not be: %v", got)
+	}
+}
