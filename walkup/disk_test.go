@@ -31,7 +31,7 @@ func TestOnDisk(t *testing.T) {
 
 // P13.2: the chapter's examples, on a disk.
 func TestExamplesOnDisk(t *testing.T) {
-	d := load(t, project(chapter())...)
+	d := load(t, project(t, chapter())...)
 	meets(t, d, "/modules/a/modules/b", "b", "/modules/a/modules/b")
 	meets(t, d, "/modules/a", "b", "/modules/a/modules/b")
 	meets(t, d, "/", "b", "/modules/b")
@@ -297,7 +297,7 @@ func TestSameOnDisk(t *testing.T) {
 		if tree.Check(x) != api.OK {
 			t.Fatal(flat(x))
 		}
-		d := load(t, project(x)...)
+		d := load(t, project(t, x)...)
 		if s.below(2) == 0 {
 			d.Cut(0)
 		}

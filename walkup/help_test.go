@@ -10,6 +10,7 @@ import (
 
 	"halyard/api"
 	"halyard/disk"
+	"halyard/image"
 	"halyard/span"
 	"halyard/tree"
 	"halyard/walkup"
@@ -130,19 +131,24 @@ func stored(t *testing.T, paths ...string) *disk.Disk {
 	return d
 }
 
-// project is the files of a project with that tree, as chapter 15 says, but for what stands in them.
-func project(x api.Tree) []api.File {
-	l := []api.File{file("/manifest"), file("/lock")}
+// project is the files of a project with that tree, of which each directory is a node of its own that leads to all that it finds.
+func project(t *testing.T, x api.Tree) []api.File {
+	t.Helper()
+	x = clone(x)
+	slices.SortFunc(x.Dirs, func(a, b api.Dir) int { return strings.Compare(tree.Text(a.Path), tree.Text(b.Path)) })
+	var g api.Graph
 	for i, d := range x.Dirs {
-		text := "/modules/" + strings.Join(d.Path, "/modules/")
-		if i == 0 {
-			text = ""
-		} else {
-			l = append(l, folder(text), file(text+"/package"))
+		n := api.Node{Name: d.Pack.Name, Version: d.Pack.Version}
+		for _, label := range few {
+			if at := modelLook(x, i, label); at > 0 {
+				n.Edges = append(n.Edges, api.Edge{Label: label, To: at})
+			}
 		}
-		if len(tree.Inside(x, i)) > 0 {
-			l = append(l, folder(text+"/modules"))
-		}
+		x.Dirs[i].Node, g.Nodes = i, append(g.Nodes, n)
+	}
+	l, e := image.Files(api.State{Graph: g, Tree: x})
+	if e != api.OK {
+		t.Fatalf("Files of %s: %v", flat(x), e)
 	}
 	return l
 }
