@@ -7,6 +7,7 @@ import (
 
 	"halyard/api"
 	"halyard/disk"
+	"halyard/plan"
 )
 
 // follows tells a fault unless all holds of deeds that follows of them: P16.2 to P16.4.
@@ -68,9 +69,12 @@ func least(t *testing.T, before, after []api.File, deeds []api.Deed) {
 	}
 }
 
-// isPlan tells a fault unless deeds are a plan, by chapter 17's words (P16.4).
+// isPlan tells a fault unless deeds are a plan, for package plan and by chapter 17's words (P16.4).
 func isPlan(t *testing.T, deeds []api.Deed) {
 	t.Helper()
+	if e := plan.Check(deeds); e != api.OK {
+		t.Errorf("%s are no plan: error %d", flat(deeds), e)
+	}
 	met := map[string][]int{}
 	last := api.DeedUnlink
 	for _, deed := range deeds {
@@ -169,6 +173,21 @@ func TestLeast(t *testing.T) {
 			if count[f.Path] != want {
 				t.Fatalf("%d deeds of %s, not %d; before %s, after %s", count[f.Path], f.Path, want, flat(p.before), flat(p.after))
 			}
+		}
+	}
+}
+
+// P16.4: as plans deeds have texts, which are read as the same deeds.
+func TestTextsOfDeeds(t *testing.T) {
+	s := source(15)
+	for _, p := range s.pairs(300) {
+		deeds := deedsOf(t, p.before, p.after)
+		text, e := plan.Print(deeds)
+		if e != api.OK {
+			t.Fatalf("Print(%s): error %d", flat(deeds), e)
+		}
+		if l, e := plan.Parse(text); e != api.OK || !slices.Equal(l, deeds) {
+			t.Fatalf("Parse(%s): %s, error %d, not %s", flat(text), flat(l), e, flat(deeds))
 		}
 	}
 }
