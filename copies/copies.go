@@ -43,12 +43,13 @@ func node(n api.Node) api.Node {
 func Tree(t api.Tree) api.Tree {
 	var out api.Tree
 	for _, d := range t.Dirs {
-		out.Dirs = append(out.Dirs, api.Dir{Path: path(d.Path), Pack: deps.CopyPackage(d.Pack), Node: d.Node})
+		out.Dirs = append(out.Dirs, api.Dir{Path: Path(d.Path), Pack: deps.CopyPackage(d.Pack), Node: d.Node})
 	}
 	return out
 }
 
-func path(names []string) []string {
+// Path is a copy of the names on the way to a directory.
+func Path(names []string) []string {
 	out := slices.Clone(names)
 	for i, name := range out {
 		out[i] = strings.Clone(name)

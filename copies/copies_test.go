@@ -43,8 +43,8 @@ func text(v any) string { return fmt.Sprintf("%+v", v) }
 func TestSame(t *testing.T) {
 	s := rich()
 	for _, x := range [][2]any{
-		{copies.State(s), s}, {copies.Manifest(s.Manifest), s.Manifest}, {copies.Graph(s.Graph), s.Graph}, {copies.Tree(s.Tree), s.Tree},
-		{copies.State(api.State{}), api.State{}}, {copies.Manifest(api.Manifest{}), api.Manifest{}}, {copies.Graph(api.Graph{}), api.Graph{}}, {copies.Tree(api.Tree{}), api.Tree{}},
+		{copies.State(s), s}, {copies.Manifest(s.Manifest), s.Manifest}, {copies.Graph(s.Graph), s.Graph}, {copies.Tree(s.Tree), s.Tree}, {copies.Path(s.Tree.Dirs[1].Path), s.Tree.Dirs[1].Path},
+		{copies.State(api.State{}), api.State{}}, {copies.Manifest(api.Manifest{}), api.Manifest{}}, {copies.Graph(api.Graph{}), api.Graph{}}, {copies.Tree(api.Tree{}), api.Tree{}}, {copies.Path(nil), []string{}},
 	} {
 		if text(x[0]) != text(x[1]) {
 			t.Errorf("%s, not %s", text(x[0]), text(x[1]))
